@@ -1,0 +1,1 @@
+"""Breathrows: bellows in a row, breathed into from both ends."""

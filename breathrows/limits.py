@@ -1,0 +1,3 @@
+"""The bounds that refusals go by."""
+
+MOST = 4096
