@@ -1,6 +1,7 @@
 """Those rules of ../shared/LANGUAGE.md that a look at the code alone can tell."""
 
 import ast
+import builtins
 import pathlib
 import re
 import unittest
@@ -102,12 +103,60 @@ def unknown_names(tree):
 
 
 def shadowing_names(tree):
-    """Parameters and variables that are called as a builtin is."""
+    """Parameters and variables that are called as a builtin, an import or a class of the file is."""
+    taken = set(dir(builtins))
     for node in ast.walk(tree):
-        if isinstance(node, ast.arg) and node.arg in BUILTINS:
+        if isinstance(node, ast.ImportFrom):
+            taken.update(alias.asname or alias.name for alias in node.names)
+        if isinstance(node, ast.ClassDef):
+            taken.add(node.name)
+    for node in ast.walk(tree):
+        if isinstance(node, ast.arg) and node.arg in taken:
             yield node.arg
-        if isinstance(node, ast.Name) and not isinstance(node.ctx, ast.Load) and node.id in BUILTINS:
+        if isinstance(node, ast.Name) and not isinstance(node.ctx, ast.Load) and node.id in taken:
             yield node.id
+
+
+def called(node):
+    """The name of the function that the node calls, if it's a plain call."""
+    return node.func.id if isinstance(node, ast.Call) and isinstance(node.func, ast.Name) else None
+
+
+def iteration_faults(tree):
+    """What L7 and L23 say of what is gone through."""
+    for node in ast.walk(tree):
+        if called(node) in ("any", "all", "min", "max", "sum", "sorted"):
+            if any(isinstance(inner, ast.GeneratorExp) for inner in node.args):
+                yield "L7 generator"
+        if isinstance(node, (ast.Assign, ast.Return)):
+            if called(node.value) in ("zip", "enumerate", "reversed", "range"):
+                yield "L23"
+
+
+def methods_and_attributes(trees):
+    """The names of all methods, and of all attributes that are assigned."""
+    methods, attributes = set(), set()
+    for node in [inner for tree in trees for inner in ast.walk(tree)]:
+        if isinstance(node, ast.ClassDef):
+            methods.update(inner.name for inner in node.body if isinstance(inner, ast.FunctionDef))
+        if isinstance(node, ast.Attribute) and isinstance(node.ctx, ast.Store):
+            attributes.add(node.attr)
+    return methods, attributes
+
+
+def imported_files(tree):
+    return [node.module.split(".")[1] for node in tree.body if isinstance(node, ast.ImportFrom)]
+
+
+def reached_files(imports, file):
+    """All files that the file imports from, directly or through others."""
+    told, waiting = set(), list(imports[file])
+    while waiting:
+        other = waiting.pop()
+        if other not in told:
+            told.add(other)
+            waiting += imports[other]
+    return told
 
 
 def faults(text):
@@ -117,6 +166,7 @@ def faults(text):
         told += node_faults(node)
     told += ["L8 " + name for name in unknown_names(tree)]
     told += ["L15 " + name for name in shadowing_names(tree)]
+    told += iteration_faults(tree)
     return told
 
 
@@ -131,6 +181,20 @@ class Language(unittest.TestCase):
             if path.name != "__pycache__":
                 self.assertRegex(path.name, r"\A([a-z][a-z0-9_]*|__init__)\.py\Z")
 
+    def trees(self):
+        return {path.stem: ast.parse(path.read_text("utf-8")) for path in PACKAGE.glob("*.py")}
+
+    def test_no_name_is_a_method_and_an_attribute(self):
+        methods, attributes = methods_and_attributes(self.trees().values())
+        self.assertEqual(methods & attributes, set())
+        self.assertIn("rooms", methods)
+        self.assertIn("gap", attributes)
+
+    def test_no_two_files_import_from_each_other(self):
+        imports = {name: imported_files(tree) for name, tree in self.trees().items()}
+        for name in imports:
+            self.assertNotIn(name, reached_files(imports, name))
+
     def test_faults_are_found(self):
         wrong = [
             ("x = 1\nx = eval('2')\n", "L8 eval"), ("import os\n", "L6 or L7"), ("from os import path\n", "L2"),
@@ -141,6 +205,10 @@ class Language(unittest.TestCase):
             ("def f(a, b):\n    return a is b\n", "L20"), ("def f(id):\n    return 1\n", "L17 name"),
             ("def f(_a):\n    return 1\n", "L12"), ("def f(list):\n    return 1\n", "L15 list"),
             ("def f(a):\n    return 1\n\n\ndef f(a):\n    return 2\n", "L15"),
+            ("def f(a):\n    hash = a\n    return a\n", "L15 hash"),
+            ("from breathrows.rows import bare\n\n\ndef f(bare):\n    return bare\n", "L15 bare"),
+            ("def f(a):\n    return all(b for b in a)\n", "L7 generator"),
+            ("def f(a):\n    pairs = zip(a, a)\n    return list(pairs)\n", "L23"),
         ]
         for text, rule in wrong:
             with self.subTest(text=text):
