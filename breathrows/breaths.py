@@ -1,5 +1,7 @@
 """What each breath does to a standing, and what is heard at the ends."""
 
+from breathrows.words import INS
+
 # Where in what heard tells a breath counts that finds no bellows to land in.
 HEARD_AT = {"R+": 0, "R-": 1, "L+": 2, "L-": 3}
 
@@ -15,7 +17,7 @@ def reached(rooms, breath):
 def run_done(rooms, standing, breath, many):
     """The list of how many lie in each bellows behind a run, and how many of its breaths are heard."""
     lying = list(standing)
-    comes_in = breath in ("L+", "R+")
+    comes_in = breath in INS
     rest = many
     for at in reached(rooms, breath):
         if rest == 0:

@@ -3,6 +3,7 @@
 from breathrows.rows import is_number
 
 BREATHS = ("L+", "L-", "R+", "R-")
+INS = ("L+", "R+")
 OTHER_HAND = {"L+": "R+", "L-": "R-", "R+": "L+", "R-": "L-"}
 OTHER_WAY = {"L+": "L-", "L-": "L+", "R+": "R-", "R-": "R+"}
 

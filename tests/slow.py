@@ -75,3 +75,27 @@ def some_word(chance, runs, most):
 
 def some_rooms(chance, size, most):
     return tuple(chance.randint(1, most) for _ in range(size))
+
+
+def layers(rooms, start, breaths):
+    """By layers from the start: for each standing all words of the fewest breaths, two at most, as lists of breaths."""
+    told = {start: [[]]}
+    layer = [start]
+    while layer:
+        further = {}
+        for standing in layer:
+            for breath in breaths:
+                lying = list(standing)
+                breath_done(rooms, lying, breath)
+                if tuple(lying) not in told:
+                    words = further.setdefault(tuple(lying), [])
+                    words += [word + [breath] for word in told[standing]]
+                    del words[2:]
+        told.update(further)
+        layer = list(further)
+    return told
+
+
+def runs_of(breaths):
+    """The plain word of these breaths."""
+    return [(breath, len(list(group))) for breath, group in itertools.groupby(breaths)]

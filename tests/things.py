@@ -19,5 +19,5 @@ LISTS = [[], [1], [0], [1, 2, 3], [(1,)], [[1]], [True], [None], ["1"]]
 MIXED = [(1, None), (1, "2"), (1, True), (False, 1), (1, [2]), ([1], 2), (1, (2,)), ((1,), 2), ((), ()), ([], [])]
 DEEP = [nested(leaf, kind, depth) for leaf in (1, True, None, "a") for kind in (list, tuple) for depth in range(2, 9)]
 
-# None of these is rooms, a standing or a name of anything.
+# None of these is rooms or a standing of anything.
 NEITHER = SINGLE + LISTS + MIXED + DEEP
