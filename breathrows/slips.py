@@ -98,6 +98,14 @@ class Row:
         told.heard_right = list(self.heard_right)
         return told
 
+    def lengthened(self, other):
+        """A Row of its own with other's bellows behind this one's; what was heard is this one's alone."""
+        told = self.twin()
+        told.row_rooms = self.row_rooms + other.row_rooms
+        told.slips = told.slips + other.lies()
+        told.shut = told.shut + other.shut
+        return told
+
     def __len__(self):
         return len([slip for slips in self.slips for slip in slips])
 

@@ -37,6 +37,11 @@ def size_of(word):
     return sum([many for breath, many in word])
 
 
+def breath_by_breath(word):
+    """The list of the word's breaths, each by itself."""
+    return [breath for breath, many in word for once in range(many)]
+
+
 def net_of(word, breath_in, breath_out):
     """How many more of the one breath the word has than of the other."""
     ins = sum([many for breath, many in word if breath == breath_in])

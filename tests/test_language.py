@@ -23,6 +23,10 @@ BARRED_WORDS = re.compile(
 BARRED_NODES = (
     ast.Global, ast.AsyncFunctionDef, ast.AsyncFor, ast.AsyncWith, ast.Await, ast.Import, ast.Div, ast.MatMult)
 DOUBLE = set("__init__ __eq__ __repr__ __str__ __len__ __slots__ __all__ __version__ __name__".split())
+METHODS = set(
+    "append clear copy count endswith extend find get index insert isalnum isalpha isdigit islower isspace isupper "
+    "items join keys ljust lower lstrip partition pop remove replace reverse rfind rjust rpartition rsplit rstrip "
+    "setdefault split splitlines startswith strip update upper values zfill bit_length add discard".split())
 TOP = (ast.FunctionDef, ast.ClassDef, ast.ImportFrom, ast.Assign, ast.AnnAssign)
 
 
@@ -144,6 +148,54 @@ def methods_and_attributes(trees):
     return methods, attributes
 
 
+def foreign_attributes(trees):
+    """Names read off something that are no own method or attribute, nor a method of L25."""
+    methods, attributes = methods_and_attributes(trees)
+    for node in [inner for tree in trees for inner in ast.walk(tree)]:
+        if isinstance(node, ast.Attribute) and isinstance(node.ctx, ast.Load):
+            if node.attr not in methods | attributes | METHODS:
+                yield node.attr
+
+
+def error_faults(tree, own):
+    """What L19 says of raise and except: here nothing but own errors is raised or caught."""
+    for node in ast.walk(tree):
+        if isinstance(node, ast.Raise) and node.exc is not None:
+            if called(node.exc) not in own:
+                yield "L19 raise"
+        if isinstance(node, ast.ExceptHandler):
+            caught = node.type.elts if isinstance(node.type, ast.Tuple) else [node.type]
+            if not all(isinstance(name, ast.Name) and name.id in own for name in caught):
+                yield "L19 except"
+
+
+def own_errors(tree):
+    return {node.name for node in tree.body if isinstance(node, ast.ClassDef)}
+
+
+def keyword_faults(tree):
+    """What L22 says of keywords: here neither a builtin nor a method of L25 is called with one but key, default, start."""
+    for node in ast.walk(tree):
+        if isinstance(node, ast.Call) and node.keywords:
+            name = called(node) or getattr(node.func, "attr", None)
+            if name in BUILTINS | METHODS and not {word.arg for word in node.keywords} <= {"key", "default", "start"}:
+                yield "L22"
+
+
+def double_faults(tree):
+    """What L28 says of the methods that show, count and compare: they assign nothing but lists of their own."""
+    for node in ast.walk(tree):
+        if isinstance(node, ast.FunctionDef) and node.name in ("__eq__", "__str__", "__repr__", "__len__"):
+            for inner in ast.walk(node):
+                if isinstance(inner, ast.Assign) and not isinstance(inner.value, (ast.List, ast.ListComp)):
+                    yield "L28 assigned"
+            last = node.body[-1]
+            if node.name != "__eq__" and not isinstance(last, ast.Return):
+                yield "L28 return"
+            elif node.name == "__len__" and called(last.value) != "len":
+                yield "L28 len"
+
+
 def imported_files(tree):
     return [node.module.split(".")[1] for node in tree.body if isinstance(node, ast.ImportFrom)]
 
@@ -167,6 +219,8 @@ def faults(text):
     told += ["L8 " + name for name in unknown_names(tree)]
     told += ["L15 " + name for name in shadowing_names(tree)]
     told += iteration_faults(tree)
+    told += keyword_faults(tree)
+    told += double_faults(tree)
     return told
 
 
@@ -190,6 +244,22 @@ class Language(unittest.TestCase):
         self.assertIn("rooms", methods)
         self.assertIn("gap", attributes)
 
+    def test_nothing_foreign_is_read_off_anything(self):
+        self.assertEqual(list(foreign_attributes(self.trees().values())), [])
+        self.assertEqual(list(foreign_attributes([ast.parse("def f(a):\n    return a.sort\n")])), ["sort"])
+
+    def test_own_errors_alone_are_raised_and_caught(self):
+        own = own_errors(self.trees()["errors"])
+        self.assertEqual(len(own), 15)
+        for name, tree in self.trees().items():
+            with self.subTest(file=name):
+                self.assertEqual(list(error_faults(tree, own)), [])
+        for text, rule in [("def f(a):\n    raise ValueError(a)\n", "L19 raise"),
+                           ("def f(a):\n    raise a\n", "L19 raise"),
+                           ("def f(a):\n    try:\n        return a()\n    except Exception:\n        return 1\n",
+                            "L19 except")]:
+            self.assertEqual(list(error_faults(ast.parse(text), own)), [rule])
+
     def test_no_two_files_import_from_each_other(self):
         imports = {name: imported_files(tree) for name, tree in self.trees().items()}
         for name in imports:
@@ -209,6 +279,10 @@ class Language(unittest.TestCase):
             ("from breathrows.rows import bare\n\n\ndef f(bare):\n    return bare\n", "L15 bare"),
             ("def f(a):\n    return all(b for b in a)\n", "L7 generator"),
             ("def f(a):\n    pairs = zip(a, a)\n    return list(pairs)\n", "L23"),
+            ("def f(a):\n    return zip(a, a, strict=True)\n", "L22"), ("def f(a):\n    return a.split(sep=',')\n", "L22"),
+            ("class A:\n    def __len__(self):\n        return self.a\n", "L28 len"),
+            ("class A:\n    def __str__(self):\n        a = str(self.b)\n        return a\n", "L28 assigned"),
+            ("class A:\n    def __len__(self):\n        len(self.a)\n        pass\n", "L28 return"),
         ]
         for text, rule in wrong:
             with self.subTest(text=text):
