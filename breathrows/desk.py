@@ -39,7 +39,7 @@ def number_read(word):
 def numbers_read(words, least):
     """The tuple of the numbers that the words are, None where one is none or less than that."""
     numbers = [number_read(word) for word in words]
-    if not numbers or not all([number is not None and number >= least for number in numbers]):
+    if not all([number is not None and number >= least for number in numbers]):
         return None
     return tuple(numbers)
 
@@ -50,6 +50,7 @@ def runs_read(words):
         runs = word_in(" ".join(words))
     except BadText:
         return None
+    # One empty word alone would be the text of the word of no runs.
     return runs if runs else None
 
 
